@@ -5,45 +5,16 @@ import (
 	"slices"
 	"testing"
 
+	"dspcompiler/internal/sample"
 	"dspcompiler/nat"
 )
 
 // top is the greatest digit.
 const top = 1<<32 - 1
 
-// generator makes the same lists in every run.
-type generator uint64
-
-// next returns the high half of a linear congruential sequence.
-func (g *generator) next() uint32 {
-	*g = *g*6364136223846793005 + 1442695040888963407
-	return uint32(*g >> 32)
-}
-
-// list returns a list of n digits. Every third one is 0 or the greatest, for
-// the carries that ordinary digits do not bring about.
-func (g *generator) list(n int) []uint32 {
-	z := make([]uint32, n)
-	for i := range z {
-		switch g.next() % 6 {
-		case 0:
-			z[i] = 0
-		case 1:
-			z[i] = top
-		default:
-			z[i] = g.next()
-		}
-	}
-	return z
-}
-
-// value returns the value of a list by its definition.
+// value returns the value of a list.
 func value(a []uint32) *big.Int {
-	z := new(big.Int)
-	for _, digit := range slices.Backward(a) {
-		z.Lsh(z, 32)
-		z.Or(z, new(big.Int).SetUint64(uint64(digit)))
-	}
+	z, _ := new(big.Int).SetString(sample.Hex(a), 16)
 	return z
 }
 
@@ -77,31 +48,21 @@ func expect(t *testing.T, call string, got []uint32, want *big.Int, arguments ..
 	}
 }
 
-// edges are lists at the ends of their sizes, some with leading zeros.
-func edges() [][]uint32 {
-	return [][]uint32{
-		nil, {}, {0}, {0, 0, 0}, {1}, {1, 0}, {2}, {3}, {top}, {top, 0, 0},
-		{0, 1}, {0, 1, 0}, {1, 1}, {top, top}, {0, 1 << 31}, {top, 1<<31 - 1},
-		{0, 0, 1}, {1, 0, 1 << 31}, {0, top, 1 << 31}, {top, 0, top}, {top, top, top},
-		{0, 0, 0, 1 << 31}, {5, top, top, 1<<31 - 1}, {3, 2, 1, top, top}, {0, 0, 0, 0, 0, 1},
-	}
-}
-
 // pairs calls a function with all pairs of edges and with pairs of lists of
 // many sizes, from empty ones to those whose products are formed from halves.
 func pairs(f func(a, b []uint32)) {
-	for _, a := range edges() {
-		for _, b := range edges() {
+	for _, a := range sample.Edges() {
+		for _, b := range sample.Edges() {
 			f(a, b)
 		}
 	}
-	g := generator(1)
+	g := sample.Generator(1)
 	for range 3000 {
-		f(g.list(int(g.next()%12)), g.list(int(g.next()%12)))
+		f(g.Digits(g.Below(12)), g.Digits(g.Below(12)))
 	}
 	for _, n := range []int{40, 47, 48, 49, 95, 96, 97, 150, 301} {
 		for _, m := range []int{1, 3, 47, 48, 49, 96, 150, 301} {
-			f(g.list(n), g.list(m))
+			f(g.Digits(n), g.Digits(m))
 			f(all(top, n), all(top, m))
 			f(append(make([]uint32, n-1), 1), append(make([]uint32, m-1), 1))
 		}

@@ -6,14 +6,15 @@ import (
 	"testing"
 
 	"dspcompiler/api"
+	"dspcompiler/internal/sample"
 	"dspcompiler/nat"
 )
 
 // P1.4
 
 func TestPow(t *testing.T) {
-	g := generator(5)
-	for _, a := range append(edges(), g.list(7), g.list(30)) {
+	g := sample.Generator(5)
+	for _, a := range append(sample.Edges(), g.Digits(7), g.Digits(30)) {
 		for n := range api.MaxPower + 1 {
 			z, e := nat.Pow(a, n)
 			if e != api.OK {
@@ -62,8 +63,8 @@ func expectRoot(t *testing.T, a []uint32, n int) {
 }
 
 func TestRoot(t *testing.T) {
-	g := generator(6)
-	for _, a := range append(edges(), g.list(7), g.list(40), g.list(150), []uint32{8, 0}) {
+	g := sample.Generator(6)
+	for _, a := range append(sample.Edges(), g.Digits(7), g.Digits(40), g.Digits(150), []uint32{8, 0}) {
 		for n := 1; n <= api.MaxPower; n++ {
 			expectRoot(t, a, n)
 		}
@@ -83,10 +84,10 @@ func TestRootExample(t *testing.T) {
 
 // At a power the root jumps: its neighbours are where it is wrong by one.
 func TestRootNearPowers(t *testing.T) {
-	g := generator(7)
+	g := sample.Generator(7)
 	for n := 1; n <= api.MaxPower; n++ {
 		for size := range 6 {
-			power, _ := nat.Pow(g.list(size), n)
+			power, _ := nat.Pow(g.Digits(size), n)
 			expectRoot(t, power, n)
 			expectRoot(t, nat.Add(power, []uint32{1}), n)
 			expectRoot(t, nat.Sub(power, []uint32{1}), n)

@@ -5,6 +5,7 @@ import (
 	"testing"
 
 	"dspcompiler/api"
+	"dspcompiler/internal/sample"
 	"dspcompiler/nat"
 )
 
@@ -21,21 +22,14 @@ func results(a, b []uint32) [][]uint32 {
 	}
 }
 
-// guarded returns a copy of a list with more memory behind it, so that a
-// function that appends to an argument is found out.
-func guarded(a []uint32) []uint32 {
-	z := append(slices.Clone(a), 11, 12, 13, 14)
-	return z[:len(a)]
-}
-
 // R3: neither the arguments nor the memory behind them are modified, and no
 // result shares memory with an argument or with another result.
 func TestMemory(t *testing.T) {
-	g := generator(8)
-	lists := append(edges(), g.list(4), g.list(9), g.list(60), g.list(110))
+	g := sample.Generator(8)
+	lists := append(sample.Edges(), g.Digits(4), g.Digits(9), g.Digits(60), g.Digits(110))
 	for _, a := range lists {
 		for _, b := range lists {
-			x, y := guarded(a), guarded(b)
+			x, y := sample.Guarded(a), sample.Guarded(b)
 			got := results(x, y)
 			var before [][]uint32
 			for _, z := range got {
@@ -49,16 +43,12 @@ func TestMemory(t *testing.T) {
 				if !slices.Equal(z, before[i]) {
 					t.Fatal("a result was changed by the use of another one", a, b, i)
 				}
-				z = z[:cap(z)]
-				for k := range z {
-					z[k] = 99
-				}
+				sample.Spoil(z)
 			}
-			x, y = x[:len(x)+4], y[:len(y)+4]
-			if !slices.Equal(x[:len(a)], a) || !slices.Equal(x[len(a):], []uint32{11, 12, 13, 14}) {
+			if !sample.Untouched(x, a) {
 				t.Fatal("the first argument was changed", a, b, x)
 			}
-			if !slices.Equal(y[:len(b)], b) || !slices.Equal(y[len(b):], []uint32{11, 12, 13, 14}) {
+			if !sample.Untouched(y, b) {
 				t.Fatal("the second argument was changed", a, b, y)
 			}
 		}
@@ -67,8 +57,8 @@ func TestMemory(t *testing.T) {
 
 // R3: an argument may be given twice.
 func TestSameArgumentTwice(t *testing.T) {
-	g := generator(9)
-	for _, a := range append(edges(), g.list(4), g.list(60), g.list(110)) {
+	g := sample.Generator(9)
+	for _, a := range append(sample.Edges(), g.Digits(4), g.Digits(60), g.Digits(110)) {
 		same, apart := results(a, a), results(slices.Clone(a), slices.Clone(a))
 		for i := range same {
 			if !slices.Equal(same[i], apart[i]) {
@@ -80,8 +70,8 @@ func TestSameArgumentTwice(t *testing.T) {
 
 // R4: results depend on the values of the arguments, and are normal.
 func TestFormsOfArguments(t *testing.T) {
-	g := generator(10)
-	lists := append(edges(), g.list(4), g.list(60), g.list(110))
+	g := sample.Generator(10)
+	lists := append(sample.Edges(), g.Digits(4), g.Digits(60), g.Digits(110))
 	for _, a := range lists {
 		for _, b := range lists {
 			plain := results(trimmed(a), trimmed(b))
@@ -97,9 +87,9 @@ func TestFormsOfArguments(t *testing.T) {
 
 // The consequences of the chapter: the laws of arithmetic.
 func TestLaws(t *testing.T) {
-	g := generator(11)
+	g := sample.Generator(11)
 	for range 500 {
-		a, b, c := g.list(int(g.next()%60)), g.list(int(g.next()%60)), g.list(int(g.next()%60))
+		a, b, c := g.Digits(g.Below(60)), g.Digits(g.Below(60)), g.Digits(g.Below(60))
 		if !slices.Equal(nat.Add(a, nat.Add(b, c)), nat.Add(nat.Add(a, b), c)) || !slices.Equal(nat.Add(a, b), nat.Add(b, a)) {
 			t.Fatal("Add", a, b, c)
 		}

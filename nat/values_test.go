@@ -7,6 +7,7 @@ import (
 	"testing"
 
 	"dspcompiler/api"
+	"dspcompiler/internal/sample"
 	"dspcompiler/nat"
 )
 
@@ -26,7 +27,7 @@ func TestNormal(t *testing.T) {
 }
 
 func TestTrim(t *testing.T) {
-	for _, a := range edges() {
+	for _, a := range sample.Edges() {
 		expect(t, "Trim", nat.Trim(a), value(a), a)
 	}
 	if a := nat.Trim([]uint32{7, 0, 5, 0, 0}); !slices.Equal(a, []uint32{7, 0, 5}) {
@@ -158,8 +159,8 @@ func TestBitLen(t *testing.T) {
 }
 
 func TestShift(t *testing.T) {
-	g := generator(2)
-	lists := append(edges(), g.list(9), g.list(20), g.list(60))
+	g := sample.Generator(2)
+	lists := append(sample.Edges(), g.Digits(9), g.Digits(20), g.Digits(60))
 	for _, a := range lists {
 		for n := range 140 {
 			expect(t, "Shift", nat.Shift(a, n), new(big.Int).Lsh(value(a), uint(n)), a, n)
@@ -185,14 +186,14 @@ func TestShiftLimits(t *testing.T) {
 }
 
 func TestGcd(t *testing.T) {
-	g := generator(3)
+	g := sample.Generator(3)
 	pairs(func(a, b []uint32) {
 		expect(t, "Gcd", nat.Gcd(a, b), new(big.Int).GCD(nil, nil, value(a), value(b)), a, b)
-		common := g.list(int(g.next() % 9))
+		common := g.Digits(g.Below(9))
 		a, b = nat.Mul(a, common), nat.Mul(b, common)
 		expect(t, "Gcd", nat.Gcd(a, b), new(big.Int).GCD(nil, nil, value(a), value(b)), a, b)
 	})
-	for _, a := range edges() {
+	for _, a := range sample.Edges() {
 		expect(t, "Gcd of 0", nat.Gcd(nil, a), value(a), a)
 		expect(t, "Gcd with 0", nat.Gcd(a, []uint32{0}), value(a), a)
 		expect(t, "Gcd with itself", nat.Gcd(a, a), value(a), a)
@@ -212,11 +213,11 @@ func TestGcdLongRuns(t *testing.T) {
 			expect(t, "Gcd of neighbours", nat.Gcd(y, x), big.NewInt(1), n)
 		}
 	}
-	g := generator(4)
+	g := sample.Generator(4)
 	for range 300 {
 		x, y = common, nil
 		for range 40 {
-			quotient := nat.Shift([]uint32{g.next()}, int(g.next()%70)-31)
+			quotient := nat.Shift([]uint32{g.Next()}, g.Below(70)-31)
 			x, y = nat.Add(nat.Mul(quotient, x), y), x
 			expect(t, "Gcd of numbers with known quotients", nat.Gcd(x, y), value(common), x, y)
 		}
