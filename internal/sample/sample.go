@@ -101,6 +101,21 @@ func Spoil(a []uint32) {
 	}
 }
 
+// Apart reports whether no two lists share memory. It overwrites all of them.
+func Apart(lists [][]uint32) bool {
+	before := make([][]uint32, len(lists))
+	for i, a := range lists {
+		before[i] = slices.Clone(a)
+	}
+	for i, a := range lists {
+		if !slices.Equal(a, before[i]) {
+			return false
+		}
+		Spoil(a)
+	}
+	return true
+}
+
 // guard is what lies behind a guarded list.
 func guard() []uint32 {
 	return []uint32{11, 12, 13, 14}

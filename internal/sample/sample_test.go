@@ -1,0 +1,52 @@
+package sample
+
+import (
+	"testing"
+
+	"dspcompiler/api"
+)
+
+func TestApart(t *testing.T) {
+	a := []uint32{1, 2, 3}
+	if Apart([][]uint32{a[:1:1], nil, a[:2]}) {
+		t.Error("lists that begin alike are not found out")
+	}
+	a = []uint32{1, 2, 3}
+	if Apart([][]uint32{a[:1], {7}, a[1:2]}) {
+		t.Error("a list behind another one is not found out")
+	}
+	if !Apart([][]uint32{{1}, nil, {}, {1}}) {
+		t.Error("lists of their own are found to share memory")
+	}
+}
+
+func TestUntouched(t *testing.T) {
+	a := []uint32{1, 2}
+	guarded := Guarded(a)
+	if !Untouched(guarded, a) {
+		t.Error("a copy is found to be touched")
+	}
+	_ = append(guarded, 5)
+	if Untouched(guarded, a) {
+		t.Error("a change behind a list is not found out")
+	}
+	guarded = Guarded(a)
+	guarded[1] = 5
+	if Untouched(guarded, a) {
+		t.Error("a change of a list is not found out")
+	}
+}
+
+func TestUntouchedRat(t *testing.T) {
+	a := api.Rat{Num: api.Int{Mag: []uint32{1}}, Den: []uint32{2}}
+	if !UntouchedRat(GuardedRat(a), a) {
+		t.Error("a copy is found to be touched")
+	}
+	for i := range 2 {
+		guarded := GuardedRat(a)
+		Spoil(Lists([]api.Rat{guarded})[i])
+		if UntouchedRat(guarded, a) {
+			t.Error("a change is not found out", i)
+		}
+	}
+}
