@@ -50,3 +50,17 @@ func TestUntouchedRat(t *testing.T) {
 		}
 	}
 }
+
+func TestUntouchedInterval(t *testing.T) {
+	a := Intervals()[20]
+	if !UntouchedInterval(GuardedInterval(a), a) || !SameInterval(GuardedInterval(a), a) {
+		t.Error("a copy is found to be touched")
+	}
+	for i := range 4 {
+		guarded := GuardedInterval(a)
+		Spoil(Lists([]api.Rat{guarded.Lo, guarded.Hi})[i])
+		if UntouchedInterval(guarded, a) || SameInterval(guarded, a) {
+			t.Error("a change is not found out", i)
+		}
+	}
+}
