@@ -1,5 +1,5 @@
-// Package sample makes the numbers and the intervals that the tests of the
-// layers are run with.
+// Package sample makes the numbers, the intervals and the polynomials that the
+// tests of the layers are run with.
 //
 // It calls no layer, so that it can be used to test all of them.
 package sample

@@ -64,3 +64,25 @@ func TestUntouchedInterval(t *testing.T) {
 		}
 	}
 }
+
+func TestUntouchedPoly(t *testing.T) {
+	p := Polys()[len(Polys())-1]
+	if !UntouchedPoly(GuardedPoly(p), p) || !SamePoly(GuardedPoly(p), p) || !UntouchedPoly(GuardedPoly(nil), nil) {
+		t.Error("a copy is found to be touched")
+	}
+	for i := range 2 * len(p) {
+		guarded := GuardedPoly(p)
+		Spoil(Lists(guarded)[i])
+		if UntouchedPoly(guarded, p) || SamePoly(guarded, p) {
+			t.Error("a change is not found out", i)
+		}
+	}
+	guarded := GuardedPoly(p)
+	_ = append(guarded, api.Rat{})
+	if UntouchedPoly(guarded, p) {
+		t.Error("a change behind a polynomial is not found out")
+	}
+	if SamePoly(p, p[1:]) {
+		t.Error("lists of two lengths are found to be the same")
+	}
+}
