@@ -35,20 +35,6 @@ func lists(intervals []api.Interval) [][]uint32 {
 	return sample.Lists(ends)
 }
 
-// padded returns another form of the same interval: the ends are exchanged,
-// and neither is in lowest terms or without leading zeros.
-func padded(a api.Interval) api.Interval {
-	return api.Interval{Lo: paddedRat(a.Hi), Hi: paddedRat(a.Lo)}
-}
-
-// paddedRat returns another form of the same number.
-func paddedRat(a api.Rat) api.Rat {
-	z := sample.GuardedRat(a)
-	z.Num.Mag, z.Den = append(z.Num.Mag, 0, 0), append(z.Den, 0)
-	// A lower zero digit in both multiplies both by the same number.
-	return api.Rat{Num: api.Int{Neg: z.Num.Neg, Mag: slices.Insert(z.Num.Mag, 0, 0)}, Den: slices.Insert(z.Den, 0, 0)}
-}
-
 // operands are intervals in forms of all kinds, and valid ones.
 func operands() []api.Interval {
 	list := sample.Intervals()
@@ -110,11 +96,11 @@ func TestSameArgumentTwice(t *testing.T) {
 // R4: results depend on the sets that the arguments denote.
 func TestFormsOfArguments(t *testing.T) {
 	for _, a := range operands() {
-		if interval.Valid(padded(a)) {
+		if interval.Valid(sample.PaddedInterval(a)) {
 			t.Fatal("the other form of an interval is valid", a)
 		}
 		for _, b := range operands() {
-			plain, other := results(interval.Trim(a), interval.Trim(b)), results(padded(a), padded(b))
+			plain, other := results(interval.Trim(a), interval.Trim(b)), results(sample.PaddedInterval(a), sample.PaddedInterval(b))
 			for i := range plain {
 				// Make has no intervals as arguments.
 				if isMake := 1 <= i && i <= 3; !isMake && !sample.SameInterval(plain[i], other[i]) {
@@ -122,7 +108,7 @@ func TestFormsOfArguments(t *testing.T) {
 				}
 			}
 			x, y := interval.Trim(a), interval.Trim(b)
-			if interval.Sign(padded(a)) != interval.Sign(x) || interval.Inside(padded(a), padded(b)) != interval.Inside(x, y) || interval.Contains(padded(a), paddedRat(b.Lo)) != interval.Contains(x, rational.Trim(b.Lo)) {
+			if interval.Sign(sample.PaddedInterval(a)) != interval.Sign(x) || interval.Inside(sample.PaddedInterval(a), sample.PaddedInterval(b)) != interval.Inside(x, y) || interval.Contains(sample.PaddedInterval(a), sample.PaddedRat(b.Lo)) != interval.Contains(x, rational.Trim(b.Lo)) {
 				t.Fatal("the form of an argument changes an answer", a, b)
 			}
 		}

@@ -48,30 +48,6 @@ func lists(polys []api.Poly) [][]uint32 {
 	return z
 }
 
-// padded returns another form of the same polynomial: zeros follow, and no
-// coefficient is in lowest terms.
-func padded(p api.Poly) api.Poly {
-	var z api.Poly
-	for _, c := range p {
-		z = append(z, paddedRat(c))
-	}
-	return append(z, api.Rat{}, api.Rat{Num: api.Int{Neg: true, Mag: []uint32{0}}, Den: []uint32{7, 0}})
-}
-
-// paddedRat returns another form of the same number.
-func paddedRat(a api.Rat) api.Rat {
-	longer := func(digits []uint32) []uint32 {
-		// A lower zero digit in both multiplies both by the same number.
-		return append(append([]uint32{0}, digits...), 0)
-	}
-	return api.Rat{Num: api.Int{Neg: a.Num.Neg, Mag: longer(a.Num.Mag)}, Den: longer(a.Den)}
-}
-
-// paddedInterval returns another form of the same interval.
-func paddedInterval(a api.Interval) api.Interval {
-	return api.Interval{Lo: paddedRat(a.Hi), Hi: paddedRat(a.Lo)}
-}
-
 // operands calls a function with pairs of polynomials and with intervals.
 func operands(f func(p, q api.Poly, x api.Interval)) {
 	list := sample.Intervals()
@@ -133,10 +109,10 @@ func TestSameArgumentTwice(t *testing.T) {
 // R4: results depend on the polynomials that the arguments denote.
 func TestFormsOfArguments(t *testing.T) {
 	operands(func(p, q api.Poly, x api.Interval) {
-		if poly.Valid(padded(p)) {
+		if poly.Valid(sample.PaddedPoly(p)) {
 			t.Fatal("the other form of a polynomial is valid", p)
 		}
-		plain, other := results(canonical(p), canonical(q), interval.Trim(x)), results(padded(p), padded(q), paddedInterval(x))
+		plain, other := results(canonical(p), canonical(q), interval.Trim(x)), results(sample.PaddedPoly(p), sample.PaddedPoly(q), sample.PaddedInterval(x))
 		for i := range plain {
 			// Of the interval's ends themselves, which are exchanged, depend
 			// Monomial, Eval and Scale.
@@ -144,11 +120,11 @@ func TestFormsOfArguments(t *testing.T) {
 				t.Fatal("the form of an argument changes a result", i, p, q, x)
 			}
 		}
-		if answers(canonical(p), canonical(q)) != answers(padded(p), padded(q)) {
+		if answers(canonical(p), canonical(q)) != answers(sample.PaddedPoly(p), sample.PaddedPoly(q)) {
 			t.Fatal("the form of an argument changes an answer", p, q)
 		}
-		expectNumber(t, "Eval", poly.Eval(padded(p), paddedRat(x.Lo)), poly.Eval(canonical(p), rational.Trim(x.Lo)), p, x)
-		expect(t, "Scale", poly.Scale(padded(p), paddedRat(x.Lo)), poly.Scale(canonical(p), rational.Trim(x.Lo)), p, x)
+		expectNumber(t, "Eval", poly.Eval(sample.PaddedPoly(p), sample.PaddedRat(x.Lo)), poly.Eval(canonical(p), rational.Trim(x.Lo)), p, x)
+		expect(t, "Scale", poly.Scale(sample.PaddedPoly(p), sample.PaddedRat(x.Lo)), poly.Scale(canonical(p), rational.Trim(x.Lo)), p, x)
 	})
 }
 

@@ -26,14 +26,6 @@ func results(a, b api.Rat) []api.Rat {
 	return list
 }
 
-// padded returns another form of the same number.
-func padded(a api.Rat) api.Rat {
-	z := sample.GuardedRat(a)
-	z.Num.Mag, z.Den = append(z.Num.Mag, 0, 0), append(z.Den, 0)
-	// A lower zero digit in both multiplies both by the same number.
-	return api.Rat{Num: api.Int{Neg: z.Num.Neg, Mag: slices.Insert(z.Num.Mag, 0, 0)}, Den: slices.Insert(z.Den, 0, 0)}
-}
-
 // operands are numbers in forms of all kinds, and valid ones.
 func operands() []api.Rat {
 	list := sample.Rats()
@@ -78,12 +70,12 @@ func TestSameArgumentTwice(t *testing.T) {
 // R4: results depend on the values of the arguments.
 func TestFormsOfArguments(t *testing.T) {
 	for _, a := range operands() {
-		if value(padded(a)).Cmp(value(a)) != 0 || rational.Valid(padded(a)) {
+		if value(sample.PaddedRat(a)).Cmp(value(a)) != 0 || rational.Valid(sample.PaddedRat(a)) {
 			t.Fatal("the other form of a number", a)
 		}
 		for _, b := range operands() {
 			// Make has no rational arguments.
-			plain, other := results(rational.Trim(a), rational.Trim(b))[1:], results(padded(a), padded(b))[1:]
+			plain, other := results(rational.Trim(a), rational.Trim(b))[1:], results(sample.PaddedRat(a), sample.PaddedRat(b))[1:]
 			if !slices.EqualFunc(plain, other, sample.SameRat) {
 				t.Fatal("the form of an argument changes a result", a, b, plain, other)
 			}

@@ -7,7 +7,6 @@ import (
 	"dspcompiler/internal/sample"
 	"dspcompiler/interval"
 	"dspcompiler/poly"
-	"dspcompiler/rational"
 	"dspcompiler/sturm"
 )
 
@@ -79,27 +78,13 @@ func TestMemoryOfValidOperands(t *testing.T) {
 	})
 }
 
-// padded returns another form of the same number.
-func padded(a api.Rat) api.Rat {
-	longer := func(digits []uint32) []uint32 {
-		// A lower zero digit in both multiplies both by the same number.
-		return append(append([]uint32{0}, digits...), 0)
-	}
-	return api.Rat{Num: api.Int{Neg: a.Num.Neg, Mag: longer(a.Num.Mag)}, Den: longer(a.Den)}
-}
-
 // R4, R5: results depend on the values of the arguments alone.
 func TestFormsOfArguments(t *testing.T) {
 	operands(func(p api.Poly, on api.Interval) {
-		var loose api.Poly
-		for _, c := range p {
-			loose = append(loose, padded(c))
-		}
-		loose = append(loose, api.Rat{}, padded(rational.Of(0)))
 		plain, plainList := results(poly.Trim(p), interval.Trim(on), 3)
-		other, otherList := results(loose, api.Interval{Lo: padded(on.Hi), Hi: padded(on.Lo)}, 3)
+		other, otherList := results(sample.PaddedPoly(p), sample.PaddedInterval(on), 3)
 		// SignAfter alone depends on an end itself, which is another one here.
-		other.after, _ = sturm.SignAfter(loose, padded(interval.Trim(on).Lo))
+		other.after, _ = sturm.SignAfter(sample.PaddedPoly(p), sample.PaddedRat(interval.Trim(on).Lo))
 		if plain != other || len(plainList) != len(otherList) {
 			t.Fatal("the form of an argument changes a result", p, on, plain, other)
 		}

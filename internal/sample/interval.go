@@ -42,6 +42,12 @@ func UntouchedInterval(guarded, a api.Interval) bool {
 	return UntouchedRat(guarded.Lo, a.Lo) && UntouchedRat(guarded.Hi, a.Hi)
 }
 
+// PaddedInterval returns another form of the same interval: the ends are
+// exchanged and padded.
+func PaddedInterval(a api.Interval) api.Interval {
+	return api.Interval{Lo: PaddedRat(a.Hi), Hi: PaddedRat(a.Lo)}
+}
+
 // SameInterval reports whether two intervals are equal as plain data.
 func SameInterval(a, b api.Interval) bool {
 	return SameRat(a.Lo, b.Lo) && SameRat(a.Hi, b.Hi)

@@ -74,6 +74,16 @@ func UntouchedPoly(guarded, p api.Poly) bool {
 	return slices.EqualFunc(guarded, p, UntouchedRat) && UntouchedRat(guarded[:len(p)+1][len(p)], behind())
 }
 
+// PaddedPoly returns another form of the same polynomial: the coefficients are
+// padded, and zeros follow.
+func PaddedPoly(p api.Poly) api.Poly {
+	var z api.Poly
+	for _, c := range p {
+		z = append(z, PaddedRat(c))
+	}
+	return append(z, api.Rat{}, ratOf(true, []uint32{0}, []uint32{7, 0}))
+}
+
 // SamePoly reports whether two polynomials are equal as plain data.
 func SamePoly(p, q api.Poly) bool {
 	return slices.EqualFunc(p, q, SameRat)

@@ -46,6 +46,16 @@ func UntouchedRat(guarded, a api.Rat) bool {
 	return guarded.Num.Neg == a.Num.Neg && Untouched(guarded.Num.Mag, a.Num.Mag) && Untouched(guarded.Den, a.Den)
 }
 
+// PaddedRat returns another form of the same number: neither in lowest terms nor
+// without leading zeros.
+func PaddedRat(a api.Rat) api.Rat {
+	longer := func(digits []uint32) []uint32 {
+		// A lower zero digit in both multiplies both by the same number.
+		return append(append([]uint32{0}, digits...), 0)
+	}
+	return api.Rat{Num: api.Int{Neg: a.Num.Neg, Mag: longer(a.Num.Mag)}, Den: longer(a.Den)}
+}
+
 // SameRat reports whether two rational numbers are equal as plain data.
 func SameRat(a, b api.Rat) bool {
 	return a.Num.Neg == b.Num.Neg && slices.Equal(a.Num.Mag, b.Num.Mag) && slices.Equal(a.Den, b.Den)

@@ -1,6 +1,7 @@
 package sample
 
 import (
+	"math/big"
 	"testing"
 
 	"dspcompiler/api"
@@ -85,4 +86,43 @@ func TestUntouchedPoly(t *testing.T) {
 	if SamePoly(p, p[1:]) {
 		t.Error("lists of two lengths are found to be the same")
 	}
+}
+
+func TestPadded(t *testing.T) {
+	for _, a := range Intervals() {
+		padded := PaddedInterval(a)
+		if !equalRat(padded.Lo, a.Hi) || !equalRat(padded.Hi, a.Lo) || SameInterval(padded, a) {
+			t.Error("another form of an interval", a, padded)
+		}
+	}
+	for _, p := range Polys() {
+		padded := PaddedPoly(p)
+		if len(padded) <= len(p) {
+			t.Fatal("another form of a polynomial", p, padded)
+		}
+		for i, c := range padded {
+			if i < len(p) && (!equalRat(c, p[i]) || SameRat(c, p[i])) || i >= len(p) && !equalRat(c, api.Rat{}) {
+				t.Error("another form of a coefficient", p, i, c)
+			}
+		}
+	}
+}
+
+// equalRat reports whether two rational numbers have the same value.
+func equalRat(a, b api.Rat) bool {
+	x, y := fraction(a), fraction(b)
+	return x.Cmp(y) == 0
+}
+
+// fraction returns the value of a rational number, by its definition.
+func fraction(a api.Rat) *big.Rat {
+	num, _ := new(big.Int).SetString(Hex(a.Num.Mag), 16)
+	den, _ := new(big.Int).SetString(Hex(a.Den), 16)
+	if a.Num.Neg {
+		num.Neg(num)
+	}
+	if den.Sign() == 0 {
+		return new(big.Rat)
+	}
+	return new(big.Rat).SetFrac(num, den)
 }
