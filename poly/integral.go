@@ -2,6 +2,7 @@ package poly
 
 import (
 	"dspcompiler/api"
+	"dspcompiler/internal/common"
 	"dspcompiler/rational"
 )
 
@@ -21,16 +22,8 @@ func one() api.Rat {
 // cleared returns a polynomial as integers over their least common denominator.
 // The last integer is not 0.
 func cleared(p api.Poly) integral {
-	den := one()
-	for _, c := range p {
-		den = rational.Mul(den, denominator(rational.Mul(c, den)))
-	}
+	den := common.Denominator(p)
 	return integral{scaled(cut(p), den), den}
-}
-
-// denominator returns the denominator of a valid number, in its memory.
-func denominator(a api.Rat) api.Rat {
-	return api.Rat{Num: api.Int{Mag: a.Den}, Den: []uint32{1}}
 }
 
 // poly returns the valid polynomial of f, in memory of its own.

@@ -2,6 +2,7 @@ package sturm
 
 import (
 	"dspcompiler/api"
+	"dspcompiler/internal/common"
 	"dspcompiler/poly"
 	"dspcompiler/rational"
 )
@@ -47,11 +48,7 @@ func remainders(p api.Poly) chain {
 // coefficients are integers without a common divisor, the last one positive.
 func primitive(p api.Poly) api.Poly {
 	p = poly.Monic(p)
-	den := rational.Of(1)
-	for _, c := range p {
-		den = rational.Mul(den, denominator(rational.Mul(c, den)))
-	}
-	return poly.Scale(p, den)
+	return poly.Scale(p, common.Denominator(p))
 }
 
 // remainder returns the remainder of p and q, times the absolute value of the
@@ -85,11 +82,6 @@ func reduced(p, q api.Poly) api.Poly {
 // numerator returns the numerator of a valid number, in its memory.
 func numerator(a api.Rat) api.Rat {
 	return api.Rat{Num: a.Num, Den: []uint32{1}}
-}
-
-// denominator returns the denominator of a valid number, in its memory.
-func denominator(a api.Rat) api.Rat {
-	return api.Rat{Num: api.Int{Mag: a.Den}, Den: []uint32{1}}
 }
 
 // power returns the n-th power, for n from 0 to MaxPower.

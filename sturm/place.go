@@ -2,6 +2,7 @@ package sturm
 
 import (
 	"dspcompiler/api"
+	"dspcompiler/internal/common"
 	"dspcompiler/interval"
 	"dspcompiler/rational"
 )
@@ -37,7 +38,7 @@ func (c chain) evaluate(x api.Rat) place {
 // scaledPowers returns n powers of x, from 1 on, times the denominator of the
 // last one: with integers, a sum needs no common denominator.
 func scaledPowers(x api.Rat, n int) []api.Rat {
-	z, dens := powers(numerator(x), n), powers(denominator(x), n)
+	z, dens := powers(numerator(x), n), powers(common.Denominator([]api.Rat{x}), n)
 	for i := range z {
 		z[i] = rational.Mul(z[i], dens[n-1-i])
 	}
